@@ -1,0 +1,1 @@
+"""Blockorder: the structure of equation systems."""
