@@ -32,3 +32,19 @@ def reached(starts, links):
                 found.add(other)
                 waiting.append(other)
     return sorted(found)
+
+
+def path(start, goal, links):
+    """Return the names on a path over links from the start to the goal, which is reached from it."""
+    origins = {start: None}
+    waiting = [start]
+    while goal not in origins:
+        name = waiting.pop()
+        for other in links[name]:
+            if other not in origins:
+                origins[other] = name
+                waiting.append(other)
+    names = [goal]
+    while names[-1] != start:
+        names.append(origins[names[-1]])
+    return tuple(names[::-1])

@@ -4,7 +4,7 @@ Rows are a dict from each equation to its unknowns, an assignment is a dict from
 Each function changes only what it has made itself, so that a property may call it.
 """
 
-from blockorder.graph import reached
+from blockorder.graph import linked, reached
 
 
 def largest_assignment(rows):
@@ -59,3 +59,9 @@ def ever_left_out(links, mates, partners):
     left_out = [name for name in links if name not in mates]
     exchanges = {name: [partners[other] for other in links[name] if other in partners] for name in links}
     return reached(left_out, exchanges)
+
+
+def followers(equations, entries, assigned):
+    """Return, for each equation, those to which an assignment, a tuple of entries, gives its unknowns."""
+    owners = {unknown: equation for equation, unknown in assigned}
+    return linked(equations, [(one, owners[unknown]) for one, unknown in entries if unknown in owners])
